@@ -1,0 +1,1 @@
+"""Probeties: broken ties of a net, found by probes from its rim."""

@@ -1,0 +1,104 @@
+"""Nets that several tests use, and slow ways to what the program tells.
+
+The slow ways follow the words of the document, and call nothing of the program.
+"""
+
+from itertools import combinations, permutations
+
+LONE = (1, (), (0,))
+BARE = (4, (), (0, 2, 3))
+CHAIN = (3, ((0, 1), (1, 2)), (0, 2))
+RING = (3, ((0, 1), (0, 2), (1, 2)), (0, 1, 2))
+# Ties by number: 0: 0-1, 1: 0-2, 2: 1-2, 3: 1-3, 4: 2-3.
+KITE = (4, ((0, 1), (0, 2), (1, 2), (1, 3), (2, 3)), (0, 3))
+ONE_RIM = (4, ((0, 1), (0, 2), (1, 2), (1, 3), (2, 3)), (2,))
+# Two rings with a tie between, and a tie to a knot off the rim.
+# Ties by number: 0: 0-1, 1: 0-2, 2: 1-2, 3: 2-3, 4: 3-4, 5: 3-5, 6: 4-5, 7: 5-6.
+DUMBBELL = (7, ((0, 1), (0, 2), (1, 2), (2, 3), (3, 4), (3, 5), (4, 5), (5, 6)), (0, 4))
+# A ring and a chain that nothing ties together.
+PARTED = (6, ((0, 1), (0, 2), (1, 2), (3, 4), (4, 5)), (0, 1, 3, 5))
+# The first short way, 0 1 2 6, stands in the way of both that go apart.
+CROSSED = (7, ((0, 1), (0, 3), (1, 2), (1, 4), (2, 3), (2, 6), (4, 5), (5, 6)), (0, 6))
+FULL = (7, ((0, 1), (0, 2), (0, 3), (1, 4), (2, 4), (2, 5), (3, 5), (4, 6), (5, 6)), (0, 4, 6))
+# More than is_net allows: ten ties, eight knots, all pairs of six knots, thirteen ties, a long chain.
+WHEEL = (6, tuple(sorted([(0, k) for k in range(1, 6)] + [(1, 2), (2, 3), (3, 4), (4, 5), (1, 5)])), (0, 1, 3))
+EIGHT = (8, ((0, 1), (0, 7), (1, 2), (2, 3), (3, 4), (4, 5), (5, 6), (6, 7)), (0, 3, 7))
+ALL_SIX = (6, tuple(combinations(range(6), 2)), (1, 4))
+# The tie 5-6 is gone by one way, left for a second one, and gone by a third, the other way about.
+TURNED = (12, (
+    (0, 3), (0, 4), (0, 5), (1, 4), (1, 6), (3, 7), (5, 6), (5, 9), (5, 10), (6, 7), (6, 11), (9, 11), (10, 11),
+), (0, 11))
+LONG = (40, tuple((k, k + 1) for k in range(39)), (0, 20, 39))
+
+NETS = (LONE, BARE, CHAIN, RING, KITE, ONE_RIM, DUMBBELL, PARTED, CROSSED, FULL)
+GREATER = (WHEEL, EIGHT, ALL_SIX, TURNED, LONG)
+
+
+def subsets(row):
+    return [part for size in range(len(row) + 1) for part in combinations(row, size)]
+
+
+def small_nets(most):
+    """All nets of one to most knots."""
+    for many in range(1, most + 1):
+        for ties in subsets(tuple(combinations(range(many), 2))):
+            for rim in subsets(range(many))[1:]:
+                yield (many, ties, rim)
+
+
+def five_knot_nets():
+    """All nets of five knots with at most nine ties, and the rims (0, 4) and (1, 2, 3)."""
+    for ties in subsets(tuple(combinations(range(5), 2)))[:-1]:
+        yield (5, ties, (0, 4))
+        yield (5, ties, (1, 2, 3))
+
+
+def slow_reached(net, broken, knot):
+    many, ties, rim = net
+    whole = [tie for at, tie in enumerate(ties) if at not in broken]
+    found = {knot}
+    for turn in range(many):
+        for one, other in whole:
+            if one in found or other in found:
+                found |= {one, other}
+    return tuple(sorted(found))
+
+
+def slow_routes(net):
+    many, ties, rim = net
+    found = []
+    for size in range(2, many + 1):
+        for row in permutations(range(many), size):
+            ends = row[0] in rim and row[-1] in rim and row[0] < row[-1]
+            if ends and all((a, b) in ties or (b, a) in ties for a, b in zip(row, row[1:])):
+                found.append(row)
+    return tuple(sorted(found))
+
+
+def slow_ties_of(net, route):
+    pairs = [set(pair) for pair in zip(route, route[1:])]
+    return tuple(at for at, tie in enumerate(net[1]) if set(tie) in pairs)
+
+
+def slow_apart(net, one, other):
+    """The most routes between both, no two with a tie together, by trying all choices."""
+    ends = {one, other}
+    rows = [set(slow_ties_of(net, route)) for route in slow_routes(net) if {route[0], route[-1]} == ends]
+
+    def most(at, taken):
+        if at == len(rows):
+            return 0
+        without = most(at + 1, taken)
+        if rows[at] & taken:
+            return without
+        return max(without, 1 + most(at + 1, taken | rows[at]))
+
+    return most(0, set())
+
+
+def fewest_to_part(net, one, other):
+    """How many ties must break, at the least, until other is not reached from one."""
+    for broken in subsets(range(len(net[1]))):
+        if other not in slow_reached(net, broken, one):
+            return len(broken)
+    raise AssertionError("unlike knots are apart if all ties are broken")

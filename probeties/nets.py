@@ -15,8 +15,8 @@ def is_whole(thing):
     return isinstance(thing, int) and not isinstance(thing, bool)
 
 
-def is_knot(many, thing):
-    """Whether any thing is one of many knots."""
+def is_number(many, thing):
+    """Whether any thing is the number of one of many knots or ties."""
     return is_whole(thing) and 0 <= thing < many
 
 
@@ -25,7 +25,7 @@ def is_tie(many, thing):
     if not isinstance(thing, tuple) or len(thing) != 2:
         return False
     one, other = thing
-    return is_knot(many, one) and is_knot(many, other) and one < other
+    return is_number(many, one) and is_number(many, other) and one < other
 
 
 def is_rising(row):
@@ -40,11 +40,11 @@ def are_ties(many, thing):
     return all(is_tie(many, tie) for tie in thing) and is_rising(thing)
 
 
-def are_rim_knots(many, thing):
-    """Whether any thing could be the rim of a net of many knots."""
-    if not isinstance(thing, tuple) or len(thing) == 0:
+def are_rising_numbers(many, thing):
+    """Whether any thing is a rising tuple of numbers below many."""
+    if not isinstance(thing, tuple):
         return False
-    return all(is_knot(many, knot) for knot in thing) and is_rising(thing)
+    return all(is_number(many, number) for number in thing) and is_rising(thing)
 
 
 def is_net(thing):
@@ -54,7 +54,7 @@ def is_net(thing):
     many, ties, rim = thing
     if not is_whole(many) or not 1 <= many <= MOST_KNOTS:
         return False
-    return are_ties(many, ties) and are_rim_knots(many, rim)
+    return are_ties(many, ties) and are_rising_numbers(many, rim) and len(rim) > 0
 
 
 def ordered_pair(one, other):
@@ -84,9 +84,19 @@ def beside(net, knot):
     return tuple(sorted(far_ends(net[1], knot)))
 
 
+def whole_ties(net, broken):
+    """All ties that are not broken, rising."""
+    return tuple(tie for number, tie in enumerate(net[1]) if number not in broken)
+
+
+def without_ties(net, broken):
+    """The net that is left when the broken ties go."""
+    return (net[0], whole_ties(net, broken), net[2])
+
+
 def reached(net, broken, knot):
     """All knots to which ties that are not broken lead from the knot, it too, rising."""
-    whole = [tie for number, tie in enumerate(net[1]) if number not in broken]
+    whole = whole_ties(net, broken)
     found = [knot]
     waiting = [knot]
     while waiting:

@@ -28,8 +28,16 @@ def greater_part(split):
     return max(len(split[1]), len(split[2]))
 
 
+def asks_of(net):
+    """All routes, rising, each with the numbers of its ties."""
+    return [(route, ties_of(net, route)) for route in routes(net)]
+
+
 def splits_of(asks, left):
-    """Each (route, whole, broken) by which some cases left show True and some False, the most even ones first."""
+    """Each (route, whole, broken) by which some cases left show True and some False.
+
+    The most even ones come first, of several as even those that are asked first.
+    """
     splits = []
     for route, row in asks:
         whole, broken = parted(left, row)
@@ -81,7 +89,7 @@ def split_within(asks, split, room, failed):
 
 def plan(net):
     """A plan for the net that asks as few probes at the most as can be."""
-    asks = [(route, ties_of(net, route)) for route in routes(net)]
+    asks = asks_of(net)
     left = cases(net)
     failed = {}
     # Where all is whole, those asked must go by all ties that any route has.

@@ -1,6 +1,6 @@
 """Routes: the ways from rim to rim that a probe may go."""
 
-from probeties.nets import beside, is_knot, is_rising, is_tied, tie_between
+from probeties.nets import beside, is_number, is_rising, is_tied, tie_between
 
 
 def steps_of(way):
@@ -10,7 +10,7 @@ def steps_of(way):
 
 def are_unlike_knots(many, thing):
     """Whether any thing is a tuple of unlike knots, of many there are."""
-    if not isinstance(thing, tuple) or not all(is_knot(many, knot) for knot in thing):
+    if not isinstance(thing, tuple) or not all(is_number(many, knot) for knot in thing):
         return False
     return is_rising(sorted(thing))
 
@@ -59,7 +59,8 @@ def blind(net):
 
 
 def open_way(net, taken, one, other):
-    """A way from one to other by steps that are not taken, or None."""
+    """The way from one to other by steps that are not taken with the fewest knots, of several the least; or None."""
+    # The shorter ways come first, of those of one length the lesser, so the first to come to a knot is the one.
     seen = {one: True}
     waiting = [(one,)]
     while waiting:

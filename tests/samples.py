@@ -119,10 +119,18 @@ def slow_ties_of(net, route):
     return tuple(at for at, tie in enumerate(net[1]) if set(tie) in pairs)
 
 
+def rim_pairs(net):
+    """All pairs of unlike rim knots, either way round."""
+    return list(permutations(net[2], 2))
+
+
+def slow_between(net, one, other):
+    return [route for route in slow_routes(net) if {route[0], route[-1]} == {one, other}]
+
+
 def slow_apart(net, one, other):
     """The most routes between both, no two with a tie together, by trying all choices."""
-    ends = {one, other}
-    rows = [set(slow_ties_of(net, route)) for route in slow_routes(net) if {route[0], route[-1]} == ends]
+    rows = [set(slow_ties_of(net, route)) for route in slow_between(net, one, other)]
 
     def most(at, taken):
         if at == len(rows):
@@ -135,12 +143,34 @@ def slow_apart(net, one, other):
     return most(0, set())
 
 
-def fewest_to_part(net, one, other):
-    """How many ties must break, at the least, until other is not reached from one."""
+def slow_least_cut(net, one, other):
+    """The first of the smallest choices of ties that, broken, leave other not reached from one."""
     for broken in subsets(range(len(net[1]))):
         if other not in slow_reached(net, broken, one):
-            return len(broken)
+            return broken
     raise AssertionError("unlike knots are apart if all ties are broken")
+
+
+def fewest_to_part(net, one, other):
+    """How many ties must break, at the least, until other is not reached from one."""
+    return len(slow_least_cut(net, one, other))
+
+
+def have_no_tie_together(net, chosen):
+    rows = [set(slow_ties_of(net, route)) for route in chosen]
+    return not any(one & other for one, other in combinations(rows, 2))
+
+
+def slow_barring(net, one, other):
+    """The first of the greatest choices of routes between both, no two with a tie together."""
+    known = slow_between(net, one, other)
+    found = ()
+    for size in range(1, len(known) + 1):
+        apart = [chosen for chosen in combinations(known, size) if have_no_tie_together(net, chosen)]
+        if not apart:
+            break
+        found = apart[0]
+    return found
 
 
 @cache
@@ -179,6 +209,27 @@ def slow_cases(net):
     ties = range(len(net[1]))
     firsts = [tie for tie in ties if all(((less,), (tie,)) in apart for less in range(tie))]
     return (None,) + tuple(tie for tie in firsts if ((), (tie,)) in apart)
+
+
+def slow_left(net, told):
+    """The cases that show all that was told."""
+    left = []
+    for case in slow_cases(net):
+        broken = () if case is None else (case,)
+        if all(slow_shows(net, (route,), broken) == (is_shown,) for route, is_shown in told):
+            left.append(case)
+    return tuple(left)
+
+
+def slow_best(net, left):
+    """The least route of those of which the greater part of the cases left is the least, or None."""
+    found = []
+    for route in slow_routes(net):
+        broken = [case for case in left if case in slow_ties_of(net, route)]
+        sizes = (len(broken), len(left) - len(broken))
+        if min(sizes) > 0:
+            found.append((max(sizes), route))
+    return min(found)[1] if found else None
 
 
 def least_meeting(net, things_of):

@@ -18,6 +18,12 @@ BARRED_NAMES = set("""
     copyright credits delattr dir eval exec exit gc getattr globals hasattr help id importlib license locals
     methodcaller os quit setattr vars sys hash map next round filter iter print chr format format_map
 """.split())
+# Those of L25 that may be called everywhere.
+BUILTIN_METHODS = set("""
+    append clear copy count endswith extend find get index insert isalnum isalpha isdigit islower isspace isupper items
+    join keys ljust lower lstrip partition pop remove replace reverse rfind rjust rpartition rsplit rstrip setdefault
+    split splitlines startswith strip update upper values zfill bit_length
+""".split())
 BARRED_WORDS = re.compile(
     r"\b(type|typing|typing_extensions|enum|Enum|IntEnum|StrEnum|Flag|IntFlag|Generic|Protocol|ABC|ABCMeta|namedtuple"
     r"|NamedTuple|TypedDict|TYPE_CHECKING|abstractmethod)\b|dataclass|overload|contextmanager"
@@ -125,6 +131,34 @@ class FormTest(unittest.TestCase):
                 if isinstance(function, ast.FunctionDef):
                     inner = set().union(*[names_bound(child) for child in ast.iter_child_nodes(function)])
                     self.assertFalse(inner & outer, (path, function.name))
+
+    def test_attributes(self):
+        nodes = [node for tree in self.trees.values() for node in ast.walk(tree)]
+        classes = [node for node in nodes if isinstance(node, ast.ClassDef)]
+        methods = {each.name for node in classes for each in node.body if isinstance(each, ast.FunctionDef)}
+        stored = {node.attr for node in nodes if isinstance(node, ast.Attribute) and isinstance(node.ctx, ast.Store)}
+        self.assertFalse(stored & (methods | BUILTIN_METHODS))
+        read = {node.attr for node in nodes if isinstance(node, ast.Attribute) and isinstance(node.ctx, ast.Load)}
+        self.assertFalse(read - stored - methods - BUILTIN_METHODS)
+        self.assertFalse((stored | methods) & BARRED_NAMES)
+
+    def test_no_set_is_iterated(self):
+        for path, tree in self.trees.items():
+            for node in ast.walk(tree):
+                if isinstance(node, (ast.For, ast.comprehension)):
+                    self.assertNotIsInstance(node.iter, (ast.Set, ast.SetComp), path)
+                    self.assertFalse(ast.unparse(node.iter).startswith(("set(", "frozenset(")), path)
+
+    def test_no_two_files_import_from_each_other(self):
+        sources = {path.stem: self.sources_of(tree) for path, tree in self.trees.items()}
+        free = []
+        while len(free) < len(sources):
+            more = [name for name in sources if name not in free and all(each in free for each in sources[name])]
+            self.assertTrue(more, "files import from each other")
+            free += more
+
+    def sources_of(self, tree):
+        return [node.module.removeprefix("probeties.") for node in tree.body if isinstance(node, ast.ImportFrom)]
 
 
 if __name__ == "__main__":
